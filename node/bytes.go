@@ -3,6 +3,7 @@ package node
 import (
 	"sumpter/api"
 	"sumpter/octet"
+	"sumpter/reader"
 )
 
 // write is a leaf's or a stem's bytes.
@@ -57,127 +58,63 @@ func putOp(b []byte, o api.Op) []byte {
 	return putText(putText(b, o.Lo), o.Hi)
 }
 
-// reader reads bytes; behind an error it reads noughts.
-type reader struct {
-	rest  []byte
-	errno api.Errno
-}
-
-// fail keeps the first error.
-func (r *reader) fail(e api.Errno) {
-	if r.errno == api.OK {
-		r.errno = e
-		r.rest = nil
-	}
-}
-
-func (r *reader) octet() byte {
-	if len(r.rest) == 0 {
-		r.fail(api.ErrShort)
-		return 0
-	}
-	b := r.rest[0]
-	r.rest = r.rest[1:]
-	return b
-}
-
-func (r *reader) num(most uint64) uint64 {
-	n, k, e := octet.ReadNum(r.rest)
-	if e == api.OK && n > most {
-		e = api.ErrForm
-	}
-	if e != api.OK {
-		r.fail(e)
-		return 0
-	}
-	r.rest = r.rest[k:]
-	return n
-}
-
-func (r *reader) count() int { return int(r.num(api.MaxPage)) }
-
-func (r *reader) text() string {
-	s, k, e := octet.ReadText(r.rest, api.MaxPage)
-	if e == api.ErrLong {
-		e = api.ErrForm
-	}
-	if e != api.OK {
-		r.fail(e)
-		return ""
-	}
-	r.rest = r.rest[k:]
-	return s
-}
-
-// more tells whether an i-th of n things is to be read.
-func (r *reader) more(i, n int) bool { return r.errno == api.OK && i < n }
+// most is how many there are of anything at the most, and how long a text is.
+const most = api.MaxPage
 
 // read is the leaf or the stem of some bytes.
 func read(b []byte) (any, api.Errno) {
-	r := &reader{rest: b}
+	r := reader.New(b)
 	var s any
-	switch r.octet() {
+	switch r.Octet() {
 	case leafMark:
-		s = r.leaf()
+		s = leaf{reader.List(r, most, readPair)}
 	case stemMark:
-		s = r.stem()
+		s = readStem(r)
 	default:
-		r.fail(api.ErrForm)
+		r.Fail(api.ErrForm)
 	}
-	if len(r.rest) > 0 {
-		r.fail(api.ErrForm)
-	}
-	return s, r.errno
+	r.End()
+	return s, r.Err()
 }
 
-func (r *reader) leaf() leaf {
-	var l leaf
-	n := r.count()
-	for i := 0; r.more(i, n); i++ {
-		key := r.text()
-		l.pairs = append(l.pairs, api.Pair{Key: key, Value: r.text()})
-	}
-	return l
+func readText(r *reader.Reader) string { return r.Text(most) }
+
+func readKid(r *reader.Reader) int { return int(r.Num(mostKid)) }
+
+func readPair(r *reader.Reader) api.Pair {
+	key := readText(r)
+	return api.Pair{Key: key, Value: readText(r)}
 }
 
-func (r *reader) stem() stem {
+func readStem(r *reader.Reader) stem {
 	var s stem
-	n := r.count()
-	for i := 0; r.more(i, n); i++ {
-		s.kids = append(s.kids, int(r.num(mostKid)))
-	}
-	for i := 0; r.more(i, n-1); i++ {
-		s.pivots = append(s.pivots, r.text())
-	}
-	for i := 0; r.more(i, n); i++ {
-		s.buffers = append(s.buffers, r.entries())
-	}
+	s.kids = reader.List(r, most, readKid)
+	n := len(s.kids)
+	s.pivots = reader.Times(r, n-1, readText)
+	s.buffers = reader.Times(r, n, readEntries)
 	return s
 }
 
-func (r *reader) entries() []api.Entry {
-	var l []api.Entry
-	n := r.count()
-	for i := 0; r.more(i, n); i++ {
-		seq := r.num(1<<64 - 1)
-		l = append(l, api.Entry{Seq: seq, Op: r.op()})
-	}
-	return l
+func readEntries(r *reader.Reader) []api.Entry { return reader.List(r, most, readEntry) }
+
+func readEntry(r *reader.Reader) api.Entry {
+	seq := r.Num(1<<64 - 1)
+	return api.Entry{Seq: seq, Op: readOp(r)}
 }
 
-func (r *reader) op() api.Op {
-	o := api.Op{Kind: int(r.octet())}
+func readOp(r *reader.Reader) api.Op {
+	o := api.Op{Kind: int(r.Octet())}
 	switch o.Kind {
 	case api.Put:
-		o.Key = r.text()
-		o.Value = r.text()
+		o.Key = readText(r)
+		o.Value = readText(r)
 	case api.Del:
-		o.Key = r.text()
+		o.Key = readText(r)
 	case api.Clear:
-		o.Lo = r.text()
-		o.Hi = r.text()
+		o.Lo = readText(r)
+		o.Hi = readText(r)
 	default:
-		r.fail(api.ErrForm)
+		r.Fail(api.ErrForm)
 	}
 	return o
 }
