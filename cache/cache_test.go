@@ -159,6 +159,139 @@ func TestP10_2Hand(t *testing.T) {
 	has(t, c, 1, 4, 5)
 }
 
+func TestP10_2SecondChance(t *testing.T) {
+	c, b := made(t, 3)
+	for id := 1; id <= 3; id++ {
+		pin(t, c, id, b.pages[id])
+		ok(t, c.Unpin(id))
+	}
+	pin(t, c, 4, "four") // over all three, then takes 1's place
+	pin(t, c, 2, "two")  // touched anew
+	ok(t, c.Unpin(4), c.Unpin(2))
+	pin(t, c, 5, "five") // over 2, which was touched: takes 3's place
+	has(t, c, 2, 4, 5)
+}
+
+// clock is the chapter's rule, as it stands there.
+type clock struct {
+	places []slot
+	hand   int
+	b      *back
+	want   []string
+}
+
+type slot struct {
+	full, touched, dirty bool
+	id, pins             int
+	lsn                  uint64
+}
+
+func (c *clock) at(id int) int {
+	return slices.IndexFunc(c.places, func(s slot) bool { return s.full && s.id == id })
+}
+
+func (c *clock) writeBack(i int) api.Errno {
+	s := &c.places[i]
+	if !s.dirty {
+		return api.OK
+	}
+	if c.b.safe < s.lsn {
+		c.want = append(c.want, fmt.Sprint("force ", s.lsn))
+		if e := c.b.fail[fmt.Sprint("force ", s.lsn)]; e != api.OK {
+			return e
+		}
+	}
+	c.want = append(c.want, fmt.Sprint("save ", s.id))
+	if e := c.b.fail[fmt.Sprint("save ", s.id)]; e != api.OK {
+		return e
+	}
+	s.dirty = false
+	return api.OK
+}
+
+func (c *clock) pin(id int) api.Errno {
+	i := c.at(id)
+	if i < 0 {
+		i = slices.IndexFunc(c.places, func(s slot) bool { return !s.full })
+		for i < 0 {
+			if !slices.ContainsFunc(c.places, func(s slot) bool { return s.pins == 0 }) {
+				return api.ErrPinned
+			}
+			h := c.hand
+			c.hand = (h + 1) % len(c.places)
+			if s := &c.places[h]; s.pins > 0 || s.touched {
+				s.touched = s.touched && s.pins > 0
+				continue
+			}
+			if e := c.writeBack(h); e != api.OK {
+				return e
+			}
+			c.places[h] = slot{}
+			i = h
+		}
+		c.want = append(c.want, fmt.Sprint("load ", id))
+		if e := c.b.fail[fmt.Sprint("load ", id)]; e != api.OK {
+			return e
+		}
+		c.places[i] = slot{full: true, id: id}
+	}
+	c.places[i].pins++
+	c.places[i].touched = true
+	return api.OK
+}
+
+func TestP10_2Clock(t *testing.T) {
+	r := rand.New(rand.NewSource(2))
+	for range 100 {
+		n := 1 + r.Intn(5)
+		c, b := made(t, n)
+		x := &clock{places: make([]slot, n), b: b}
+		for step := range 200 {
+			id := r.Intn(9)
+			i := x.at(id)
+			held := i >= 0 && x.places[i].pins > 0
+			b.told, x.want = nil, nil
+			var got, want api.Errno
+			// The model looks at what is safe ahead of the cache's making it so.
+			switch p := r.Intn(20); {
+			case p < 7:
+				want = x.pin(id)
+				_, got = c.Pin(id)
+			case p < 14:
+				got = c.Unpin(id)
+				if held {
+					x.places[i].pins--
+				} else {
+					want = api.ErrNone
+				}
+			case p < 18:
+				lsn := uint64(r.Intn(step + 2))
+				got = c.Put(id, []byte{1}, lsn)
+				if held {
+					s := &x.places[i]
+					if s.dirty {
+						lsn = max(lsn, s.lsn)
+					}
+					s.lsn, s.dirty, s.touched = lsn, true, true
+				} else {
+					want = api.ErrNone
+				}
+			default:
+				what := []string{"load", "save"}[r.Intn(2)]
+				b.fail[fmt.Sprint(what, " ", id)] = []api.Errno{api.OK, api.OK, api.ErrDown}[r.Intn(3)]
+			}
+			if got != want || !slices.Equal(b.told, x.want) {
+				t.Fatalf("step %d: %d, asked %q; want %d, %q", step, got, b.told, want, x.want)
+			}
+			for id := range 9 {
+				if c.Has(id) != (x.at(id) >= 0) {
+					t.Fatalf("step %d: Has(%d): %v", step, id, c.Has(id))
+				}
+			}
+		}
+	}
+}
+
 func TestP10_2Errors(t *testing.T) {
 	c, b := made(t, 2)
 	b.fail["load 3"] = api.ErrDown

@@ -129,6 +129,27 @@ func TestP16_1Settle(t *testing.T) {
 	releases(t, x, 2, ids(1), nil)
 }
 
+func TestP16_1Rising(t *testing.T) {
+	// 5 is granted x ahead of 2's being granted y, which 7 had, which died of it.
+	x := locks.New()
+	asks(t, x, 9, write("x", "y"), locks.Granted, nil, nil)
+	asks(t, x, 7, write("y", "z"), locks.Granted, nil, nil)
+	asks(t, x, 7, write("x", "y"), locks.Waits, nil, nil)
+	asks(t, x, 5, write("x", "y"), locks.Waits, nil, nil)
+	asks(t, x, 2, write("y", "z"), locks.Waits, nil, nil)
+	releases(t, x, 9, ids(2, 5), ids(7))
+	// 8 dies ahead of 6.
+	x = locks.New()
+	asks(t, x, 9, write("x", "z"), locks.Granted, nil, nil)
+	for _, txn := range []uint64{3, 8} {
+		asks(t, x, txn, write("x", "y"), locks.Waits, nil, nil)
+	}
+	for _, txn := range []uint64{5, 6} {
+		asks(t, x, txn, write("y", "z"), locks.Waits, nil, nil)
+	}
+	releases(t, x, 9, ids(3, 5), ids(6, 8))
+}
+
 func TestP16_1Many(t *testing.T) {
 	x := locks.New()
 	key := func(i int) string { return string([]byte{'a' + byte(i/26), 'a' + byte(i%26)}) }

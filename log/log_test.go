@@ -132,10 +132,13 @@ func TestP11_1MakeAnew(t *testing.T) {
 func TestP11_2Append(t *testing.T) {
 	l := made(t, device(t, 100), 0, 20) // room for 16
 	big := string(make([]byte, 599))
-	_, e := l.Append(make([]byte, 10241))
+	lsn, e := l.Append(make([]byte, 10241))
 	isErr(t, e, api.ErrLong)
-	_, e = l.Append(make([]byte, 640))
+	full, e := l.Append(make([]byte, 640))
 	isErr(t, e, api.ErrFull)
+	if lsn != 0 || full != 0 {
+		t.Errorf("with an error: %d, %d", lsn, full)
+	}
 	appends(t, l, big, 1) // 15 of them
 	_, e = l.Append(make([]byte, 40))
 	isErr(t, e, api.ErrFull)
@@ -165,8 +168,11 @@ func TestP11_2Append(t *testing.T) {
 	tail[0].Bytes[1] = 'x'
 	tells(t, l, 1, 1, big)
 	d.Crash("")
-	_, e = l.Append(nil)
+	lsn, e = l.Append(nil)
 	isErr(t, e, api.ErrDown)
+	if lsn != 0 {
+		t.Errorf("with an error: %d", lsn)
+	}
 	_, e = l.Append(make([]byte, 9999))
 	isErr(t, e, api.ErrFull)
 	_, e = l.Append(make([]byte, 10241))

@@ -96,6 +96,9 @@ func TestP1_3Text(t *testing.T) {
 				t.Errorf("ReadText of %d bytes: %q %d %d", len(s), got, n, e)
 			}
 		}
+		if got, n, e := octet.ReadText(b, len(s)); got != s || n != len(b) || e != api.OK {
+			t.Errorf("ReadText of just %d bytes: %q %d %d", len(s), got, n, e)
+		}
 		if got, n, e := octet.ReadText(b, len(s)-1); got != "" || n != 0 || e != api.ErrLong {
 			t.Errorf("ReadText one too long: %q %d %d", got, n, e)
 		}

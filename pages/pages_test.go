@@ -126,10 +126,13 @@ func TestP9_2Write(t *testing.T) {
 		write(t, s, string(b), i+1)
 		reads(t, s, i+1, string(b))
 	}
-	_, e := s.Write(make([]byte, 481))
+	long, e := s.Write(make([]byte, 481))
 	isErr(t, e, api.ErrLong)
-	_, e = s.Write(nil)
+	full, e := s.Write(nil)
 	isErr(t, e, api.ErrFull)
+	if long != 0 || full != 0 {
+		t.Errorf("with an error: %d, %d", long, full)
+	}
 	if s.Left() != 0 || !slices.Equal(s.Used(), []int{1, 2, 3, 4, 5, 6, 7}) {
 		t.Errorf("Used: %v", s.Used())
 	}
@@ -151,8 +154,11 @@ func TestP9_2Write(t *testing.T) {
 	_, e = s.Read(3)
 	isErr(t, e, api.ErrDown)
 	s.Free(3)
-	_, e = s.Write(nil)
+	id, e := s.Write(nil)
 	isErr(t, e, api.ErrDown)
+	if id != 0 {
+		t.Errorf("with an error: %d", id)
+	}
 	_, e = s.Write(make([]byte, 481))
 	isErr(t, e, api.ErrLong)
 	isErr(t, s.Commit(0, nil), api.ErrDown)
@@ -258,7 +264,7 @@ func scene(t *testing.T, r *rand.Rand, s *pages.Store, last state, steps int) (s
 			for now.pages[want] != "" || last.pages[want] != "" {
 				want++
 			}
-			b = append(b[:len(b)/2], 'x')
+			b = append(b[:max(0, len(b)-1)], 'x')
 			id, e := s.Write(b)
 			if e == api.ErrDown {
 				return last, last

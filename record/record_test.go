@@ -108,7 +108,7 @@ func TestP19_1CheckCoord(t *testing.T) {
 		{true, last()}, {true, last(api.Last{Client: 1}, api.Last{Client: 2}, api.Last{Client: 3}, api.Last{Client: 4})}, {false, last(api.Last{Client: 0})}, {false, last(api.Last{Client: 5})}, {false, last(api.Last{Client: 1}, api.Last{Client: 1})}, {false, last(api.Last{Client: 2}, api.Last{Client: 1})},
 		{true, tell(make([]api.Result, 4)...)}, {false, tell(make([]api.Result, 5)...)}, {true, tell(api.Result{Value: strings.Repeat("v", 16)})}, {false, tell(api.Result{Value: strings.Repeat("v", 17)})},
 		{true, tell(api.Result{Pairs: []api.Pair{{Key: "b"}, {Key: "b"}, {Key: "a"}, {Key: "c"}}})}, {false, tell(api.Result{Pairs: []api.Pair{{Key: "b"}, {Key: "b"}, {Key: "a"}, {Key: "c"}, {Key: "d"}}})},
-		{false, tell(api.Result{Pairs: []api.Pair{{Key: ""}}})}, {false, tell(api.Result{Pairs: []api.Pair{{Key: strings.Repeat("k", 13)}}})}, {false, tell(api.Result{Pairs: []api.Pair{{Key: "a", Value: strings.Repeat("v", 17)}}})},
+		{true, tell(api.Result{Pairs: []api.Pair{{Key: strings.Repeat("k", 12), Value: strings.Repeat("v", 16)}}})}, {false, tell(api.Result{Pairs: []api.Pair{{Key: ""}}})}, {false, tell(api.Result{Pairs: []api.Pair{{Key: strings.Repeat("k", 13)}}})}, {false, tell(api.Result{Pairs: []api.Pair{{Key: "a", Value: strings.Repeat("v", 17)}}})},
 	} {
 		c := coordOf(x.f)
 		e := record.CheckCoord(c)

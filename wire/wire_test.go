@@ -125,6 +125,9 @@ func TestP18_1Fields(t *testing.T) {
 			}
 			isMsg(t, name, x, want)
 		}
+		lists := m
+		lists.Ops, lists.Results, lists.Owners = a1, res[:1], own[:1]
+		isMsg(t, "lists", lists, false)
 	}
 }
 
