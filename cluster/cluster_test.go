@@ -277,6 +277,104 @@ func TestP22_2Letters(t *testing.T) {
 	maps(t, c, "a=2")
 }
 
+func TestP22_2OtherClient(t *testing.T) {
+	c := made(t, 2, two)
+	do(t, c, round, round, begin(1, get("a")), begin(2, get("a")))
+	for _, m := range []api.Msg{{Kind: api.Answer, To: 12, Req: 1, Boot: 1, Code: api.Aborted}, {Kind: api.Answer, To: 11, Req: 2, Boot: 1, Code: api.Aborted}, {Kind: api.Ack, From: 4, Txn: 1}, {Kind: api.Vote, From: 3, Txn: 1<<32 + 1, Code: api.Died}} {
+		b, e := wire.Encode(m)
+		if e != api.OK {
+			t.Fatal(e)
+		}
+		// An Answer to the client 1 takes its place, where one is under way; a Request else.
+		step(t, c, api.Answer, false)
+		to := c.Letters()[0].To
+		do(t, c, api.Act{Kind: api.Double}, api.Act{Kind: api.Spoil, Mask: string(b)})
+		if m.To != to || m.Req == 2 {
+			do(t, c, api.Act{Kind: api.Deliver})
+		} else {
+			do(t, c, api.Act{Kind: api.Drop})
+		}
+		if got := told(c.Seen()); strings.Contains(got, "told") || !c.Up(0) {
+			t.Fatalf("%v: %q", m, got)
+		}
+		for len(c.Letters()) > 0 {
+			do(t, c, api.Act{Kind: api.Drop})
+		}
+		do(t, c, api.Act{Kind: api.Resend, A: 1})
+	}
+	// A message to the coordinator that is not its.
+	for _, m := range []api.Msg{{Kind: api.Ack, From: 4, Txn: 1}, {Kind: api.Vote, From: 3, Txn: 1<<32 + 1, Code: api.Died}} {
+		b, _ := wire.Encode(m)
+		do(t, c, api.Act{Kind: api.Resend, A: 1})
+		last := len(c.Letters()) - 1
+		do(t, c, api.Act{Kind: api.Spoil, B: last, Mask: string(b)}, api.Act{Kind: api.Deliver, B: last})
+		if !c.Up(0) {
+			t.Fatal("it went down")
+		}
+	}
+	do(t, c, round, round)
+	sees(t, c, "asked 1/1, asked 2/1, decided 1/1, decided 2/1, told 1/1 committed -, told 2/1 committed -")
+}
+
+func TestP22_3Idle(t *testing.T) {
+	c := made(t, 2, two)
+	do(t, c, round, round, begin(1, get("a")), api.Act{Kind: api.Drop})
+	if len(c.Letters()) != 0 || c.Idle() {
+		t.Error("a request waits")
+	}
+	do(t, c, api.Act{Kind: api.Resend, A: 1})
+	step(t, c, api.Answer, false)
+	do(t, c, api.Act{Kind: api.Double})
+	for len(c.Letters()) > 0 {
+		if c.Idle() {
+			t.Error("a letter is under way")
+		}
+		if len(c.Letters()) > 1 || c.Doubt() == 0 {
+			do(t, c, api.Act{Kind: api.Deliver})
+		}
+	}
+	if !c.Idle() {
+		t.Error("it is idle")
+	}
+}
+
+func TestP22_2Full(t *testing.T) {
+	// An engine that takes no more: its node is made anew, or goes down; nothing that was told is not so.
+	c := made(t, 1, []api.Owner{{Shard: 1}})
+	n := 0
+	for i := 0; i < 2000; i++ {
+		for client := 1; client <= 4; client++ {
+			var l []api.Op
+			for range 4 {
+				l = append(l, put(fmt.Sprintf("%012d", n*7919%1000003), strings.Repeat("v", 16)))
+				n++
+			}
+			c.Do(begin(client, l...))
+		}
+		do(t, c, round)
+		if m, e := c.Map(); e != api.OK || len(m) < n {
+			break
+		}
+	}
+	if n < 200 || n > 20000 {
+		t.Errorf("full with %d pairs", n)
+	}
+	for range 3 {
+		do(t, c, round)
+		c.Do(api.Act{Kind: api.Start, A: 1})
+	}
+	want := replay(t, c)
+	if m, e := c.Map(); e == api.OK && len(m) < len(want)-64 {
+		t.Errorf("%d pairs are left of %d", len(m), len(want))
+	}
+	if c.Up(1) {
+		c.Do(api.Act{Kind: api.Crash, A: 1})
+	}
+	if e := c.Do(api.Act{Kind: api.Start, A: 1}); e != api.OK && e != api.ErrDown || c.Up(1) != (e == api.OK) {
+		t.Errorf("Start: %d", e)
+	}
+}
+
 func TestP22_2Nodes(t *testing.T) {
 	c := made(t, 2, two)
 	for _, kind := range []int{api.Tick, api.Crash, api.Start, api.Fuse} {

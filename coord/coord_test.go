@@ -477,6 +477,38 @@ func TestP21_4Memory(t *testing.T) {
 	}
 }
 
+func TestP21_4AnswersMemory(t *testing.T) {
+	s := quiet(t)
+	s.take(request(1, 1, 1, scan("", "m", 2)))
+	d, _ := s.m.Take(yes(1, 1, api.Result{Pairs: []api.Pair{{Key: "a", Value: "1"}}}))
+	d.Out[0].Results[0].Pairs[0].Key = "changed"
+	s.m.State().Last[0].Results[0].Pairs[0].Key = "changed"
+	d, _ = s.m.Take(request(1, 1, 1, get("a")))
+	d.Out[0].Results[0].Pairs[0].Value = "changed"
+	s.does(request(1, 1, 1, get("a")), "0>11 answer 1/1 committed [a=1;]")
+	if s.m.State().Last[0].Results[0].Pairs[0] != (api.Pair{Key: "a", Value: "1"}) {
+		t.Error("the state shares memory")
+	}
+}
+
+func TestP21_1Idle(t *testing.T) {
+	for shard := 1; shard <= 2; shard++ {
+		s := open(t, first())
+		s.does(known(shard, one), "")
+		if s.m.Idle() {
+			t.Errorf("%d alone has acknowledged", shard)
+		}
+		s.does(known(3-shard, one-1), "")
+		if s.m.Idle() {
+			t.Error("an elder one was acknowledged")
+		}
+		s.does(known(3-shard, one+1), "")
+		if !s.m.Idle() {
+			t.Error("it is idle")
+		}
+	}
+}
+
 func TestP21_5Follows(t *testing.T) {
 	r := rand.New(rand.NewSource(1))
 	for range 200 {

@@ -211,6 +211,7 @@ func (s *shop) waits(want ...uint64) {
 func TestP20_1New(t *testing.T) {
 	s := first()
 	s.Held = []api.Hold{{Txn: 3, Ops: []api.Op{put("a", "1"), get("b")}}, {Txn: 5, Ops: []api.Op{get("b"), put("c", "")}}}
+	s.Finished = []uint64{7, 8}
 	x := open(t, s)
 	want := s
 	want.Boot = 1
@@ -221,9 +222,10 @@ func TestP20_1New(t *testing.T) {
 	if x.m.Idle() {
 		t.Error("Idle")
 	}
-	s.Held[0].Ops[0].Key = "z"
-	x.m.State().Owners[0].Shard = 4
-	if got := x.m.State(); got.Held[0].Ops[0].Key != "a" || got.Owners[0].Shard != 1 {
+	s.Held[0].Ops[0].Key, s.Finished[0], s.Owners[1].Shard = "z", 1, 3
+	st := x.m.State()
+	st.Owners[0].Shard, st.Held[1].Ops[0].Key, st.Finished[1] = 4, "z", 9
+	if got := x.m.State(); got.Held[0].Ops[0].Key != "a" || got.Held[1].Ops[0].Key != "b" || got.Owners[0].Shard != 1 || got.Owners[1].Shard != 2 || !slices.Equal(got.Finished, []uint64{7, 8}) {
 		t.Error("the state shares memory")
 	}
 	// The locks of what is held are granted.
@@ -321,6 +323,7 @@ func TestP20_2Low(t *testing.T) {
 	if x.m.State().Low != 2 {
 		t.Error("Low falls")
 	}
+	x.does(low(1, 3), "") // nothing but Low is another one
 	x.does(low(4, 5), "") // below Low, and 3 is forgotten
 	x.finished(5, 8)
 	x.does(low(6, 5), "1>0 vote 6 yes -")
@@ -392,6 +395,7 @@ func TestP20_2Line(t *testing.T) {
 	x.does(work(3, put("e", "3"), put("d", "3")), "")
 	x.does(work(2, put("e", "2")), "")
 	x.does(decide(3, false), "1>0 ack 3, 1>0 vote 2 yes -")
+	x.waits()
 	x.finished(3, 5, 8, 9)
 	x.does(work(3, get("a")), "")
 	x.does(work(1, get("e"), get("e"), get("d")), "")
@@ -487,8 +491,12 @@ func TestP20_2Copy(t *testing.T) {
 	for _, l := range []api.Msg{loaded(1), {Kind: api.Loaded, From: 3, Move: 8, Attempt: 1}, {Kind: api.Loaded, From: 2, Move: 7, Attempt: 1}, {Kind: api.Loaded, From: 2, Move: 8, Attempt: 2}} {
 		x.does(l, "")
 	}
-	if d, e := x.m.Tick(); says(d.Out) != load0 || d.Lasts || e != api.OK {
-		t.Errorf("Tick: %v %d", d, e)
+	for range 2 {
+		d, e := x.m.Tick()
+		if says(d.Out) != load0 || d.Lasts || e != api.OK {
+			t.Errorf("Tick: %v %d", d, e)
+		}
+		d.Out[0].Ops[1].Key = "changed"
 	}
 	// What is written meanwhile is shipped behind.
 	x.does(work(5, put("gg", "new"), wipe("", "h"), del("kf"), put("a", "1"), get("g")), "1>0 vote 5 yes - - - - -")

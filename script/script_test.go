@@ -62,7 +62,7 @@ func TestP24_1NoLines(t *testing.T) {
 		for _, l := range []string{
 			"", " ", "x", "maps", "Map", "map ", " map", "map map", "map 1", "cluster", "cluster 1", "cluster -/1", "cluster 1 /1", "cluster 1 -", "cluster 1 -/", "cluster 1 -1", "cluster 1  -/1", "cluster 1 -/1 ", "cluster 01 -/1", "cluster 1 -/01", "cluster 1 A/1", "cluster 1 " + k13 + "/1", "cluster 1 -/1/1", "cluster 1 --/1",
 			"begin 1", "begin", "begin get:a", "begin 1 get", "begin 1 get:", "begin 1 get:-", "begin 1 get:A", "begin 1 get:" + k13, "begin 1 get:a:b", "begin 1 put:a", "begin 1 put:=x", "begin 1 put:a=" + v17, "begin 1 put:a=b=c", "begin 1 put:a=-", "begin 1 put:a:b", "begin 1 del:", "begin 1 scan:-:-", "begin 1 scan:-:-:", "begin 1 scan:-:-:01", "begin 1 scan:-:-:1:1", "begin 1 scan::-:1", "begin 1 clear:-", "begin 1 clear:-:", "begin 1 clear:a:b:c", "begin 1 has:a", "begin 1 get:a  get:b", "begin 1 get:a ", "begin 1 GET:a", "begin 1 get:\xff",
-			"resend", "resend 1 1", "resend a", "resend -1", "resend +1", "resend 1234567", "resend 1\n", "tick 01", "tick 00", "tick", "tick 1.0", "tick 0x1", "tick ١", "start", "deliver", "drop", "double", "double 1 1",
+			"resend", "resend 1 1", "resend a", "resend -1", "resend +1", "resend 1234567", "resend 1\n", "tick 01", "tick 00", "tick", "tick 1.0", "tick 0x1", "tick ١", "start", "start 1 1", "deliver", "deliver 1 1", "drop", "drop 1 1", "double", "double 1 1",
 			"spoil 1", "spoil 1 -", "spoil 1 a b", "spoil 1 " + k13, "crash", "crash 1 2", "crash 1 01 1", "crash 1 ", "crash 1 " + strings.Repeat("0", 65), "crash 1 0a", "fuse 1", "fuse 1 -1", "fuse 1 1 1",
 			"split", "split -", "split a b", "move a", "move a 1 1", "move 1", "move - 1", "round 101", "round 1000000", "round 01", "round 1 1", "round -1", "# round", "seen 1", "judge 1", "nodes 1", "owners 1", "letters 1", "doubt 1", "idle 1",
 		} {
@@ -78,6 +78,13 @@ func TestP24_1NoLines(t *testing.T) {
 			if got, e := d.Line("map" + strings.Repeat(" ", n-3)); got != "" || e != want {
 				t.Errorf("%d bytes: %d", n, e)
 			}
+		}
+		says(t, d, "split abcdefghijkl", "ok")
+		says(t, d, "begin 1 get:"+strings.Repeat("k", 12), "ok")
+		long := "begin 1" + strings.Repeat(" get:aaaaaaaaaaaa", 14) + " get:aaaaaa"
+		says(t, d, long, "error 3")
+		if got, e, at := script.Run("cluster 1 -/1\n" + long); len(long) != 256 || got != "ok\nerror 3\n" || e != api.OK || at != 0 {
+			t.Errorf("%d bytes: %q %d %d", len(long), got, e, at)
 		}
 		says(t, d, "crash 1 "+strings.Repeat("1", 64), "ok")
 		says(t, d, "tick 0", "ok")

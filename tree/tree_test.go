@@ -313,6 +313,67 @@ func TestP14_1OneByOne(t *testing.T) {
 	}
 }
 
+func TestP14_1Vanish(t *testing.T) {
+	// What is taken away from the beginning, from the end, or from within, takes nodes away; then others come.
+	val := strings.Repeat("v", 16)
+	key := func(i int) string { return fmt.Sprintf("key%09d", i) }
+	for way := range 6 {
+		for _, lot := range []int{1, 7, 40} {
+			r := newRoom()
+			var m []api.Pair
+			for i := range 200 {
+				m = append(m, api.Pair{Key: key(i), Value: val})
+			}
+			root, e := tree.Build(r, m)
+			if e != api.OK {
+				t.Fatal(e)
+			}
+			seq := uint64(0)
+			var l []api.Entry
+			add := func(x api.Entry) {
+				l = append(l, x)
+				if len(l) == lot {
+					root, m = grow(t, r, root, m, l)
+					l = nil
+				}
+			}
+			for i := range 250 {
+				seq++
+				switch way {
+				case 0:
+					add(del(seq, key(i)))
+				case 1:
+					add(del(seq, key(199-i%200)))
+				case 2:
+					add(del(seq, key((i+100)%200)))
+				case 3:
+					if i%5 == 0 {
+						add(wipe(seq, key(i%200), key(i%200+20)))
+					} else {
+						add(put(seq, key(300+i), val))
+					}
+				case 4:
+					if i%40 == 39 {
+						add(wipe(seq, "", key(i)))
+					} else {
+						add(put(seq, key(i*7%200), val))
+					}
+				case 5:
+					if i%30 == 29 {
+						add(wipe(seq, key(200-i%200), ""))
+					} else {
+						add(put(seq, key(i*11%300), val))
+					}
+				}
+			}
+			for i := range 100 {
+				seq++
+				add(put(seq, key(i*13%400), val))
+			}
+		}
+	}
+}
+
 func TestP14_1Many(t *testing.T) {
 	// More entries than 500, and few pages.
 	r := rand.New(rand.NewSource(3))
@@ -424,6 +485,12 @@ func TestP14_2Scan(t *testing.T) {
 			}
 		}
 	}
+	small := r.add(t, leaf("a", "b", "c"))
+	for most := range 5 {
+		if got, e := tree.Scan(r, small, api.Range{}, most); len(got) != min(most, 3) || e != api.OK {
+			t.Errorf("Scan of a leaf, %d: %v %d", most, got, e)
+		}
+	}
 	if got, e := tree.Scan(r, 0, api.Range{}, -1); len(got) != 0 || e != api.OK {
 		t.Errorf("Scan of no tree: %d", e)
 	}
@@ -457,6 +524,77 @@ func TestP14_3Pages(t *testing.T) {
 	tree.Scan(r, loop, api.Range{}, -1)
 	var seq uint64 = 2
 	tree.Put(r, loop, entries(rand.New(rand.NewSource(1)), &seq, func() string { return fmt.Sprintf("%05d", seq%977) }, 300, 10))
+}
+
+// chain is a tree of so many leaves, one node below the other; of one node more, if it is wide.
+func chain(t *testing.T, r *room, leaves int, wide bool) (int, []api.Pair) {
+	var m []api.Pair
+	key := func(i int) string { return fmt.Sprintf("%04d", i) }
+	for i := range leaves {
+		m = append(m, api.Pair{Key: key(i), Value: key(i)})
+	}
+	last := leaves - 1
+	root := r.add(t, leaf(key(last)))
+	for i := last - 1; i >= 0; i-- {
+		n := api.Node{Kids: []int{r.add(t, leaf(key(i))), root}, Pivots: []string{key(i + 1)}, Buffers: make([][]api.Entry, 2)}
+		if wide && i == 1 {
+			i--
+			n.Kids = append([]int{r.add(t, leaf(key(i)))}, n.Kids...)
+			n.Pivots = append([]string{key(i + 1)}, n.Pivots...)
+			n.Buffers = make([][]api.Entry, 3)
+		}
+		root = r.add(t, n)
+	}
+	return root, m
+}
+
+func TestP14_3MaxPlaces(t *testing.T) {
+	for _, x := range []struct {
+		leaves int
+		wide   bool
+		pages  int
+	}{{512, false, 1023}, {513, true, 1024}, {513, false, 1025}, {600, false, 1199}} {
+		r := newRoom()
+		root, m := chain(t, r, x.leaves, x.wide)
+		l, e := tree.Pages(r, root)
+		if x.pages > 1024 {
+			if l != nil || e != api.ErrNode || tree.Sound(r, root) != api.ErrNode {
+				t.Errorf("%d pages: %d", x.pages, e)
+			}
+			continue
+		}
+		if len(l) != x.pages || e != api.OK {
+			t.Errorf("%d pages: %d, %d", x.pages, len(l), e)
+		}
+		sound(t, r, root, m)
+		if v, is, e := tree.Get(r, root, m[len(m)-1].Key); v == "" || !is || e != api.OK {
+			t.Errorf("Get: %d", e)
+		}
+	}
+}
+
+func TestP14_3OnePageMissing(t *testing.T) {
+	// Each page that can't be read is told of, wherever it stands.
+	r := newRoom()
+	var m []api.Pair
+	for i := range 400 {
+		m = append(m, api.Pair{Key: fmt.Sprintf("key%09d", i), Value: "0123456789abcdef"})
+	}
+	root, _ := tree.Build(r, m)
+	for _, p := range pagesOf(t, r, root) {
+		was := r.pages[p]
+		delete(r.pages, p)
+		if l, e := tree.Scan(r, root, api.Range{}, -1); l != nil || e != api.ErrPage {
+			t.Errorf("Scan without %d: %d", p, e)
+		}
+		if l, e := tree.Pages(r, root); l != nil || e != api.ErrPage {
+			t.Errorf("Pages without %d: %d", p, e)
+		}
+		if e := tree.Sound(r, root); e != api.ErrNode {
+			t.Errorf("Sound without %d: %d", p, e)
+		}
+		r.pages[p] = was
+	}
 }
 
 func TestP14_3Sound(t *testing.T) {
