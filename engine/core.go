@@ -94,8 +94,8 @@ func (c *core) replay() api.Errno {
 		if e != api.OK {
 			return e
 		}
-		if e := c.take(r.Lsn, l, note); e != api.OK {
-			return e
+		if c.take(r.Lsn, l, note) != api.OK {
+			return api.ErrDevice
 		}
 	}
 	applied := readTag(c.room.Tag())

@@ -313,6 +313,32 @@ func TestP14_1OneByOne(t *testing.T) {
 	}
 }
 
+func TestP14_1Lots(t *testing.T) {
+	// Thousands of entries at once, that make many nodes, or take many away.
+	r := rand.New(rand.NewSource(6))
+	for range 6 {
+		rm := newRoom()
+		var root int
+		var m []api.Pair
+		var seq uint64
+		n := []int{50, 700, 2000}[r.Intn(3)]
+		key := func() string { return fmt.Sprintf("key%08d", r.Intn(n)) }
+		for range 4 {
+			root, m = grow(t, rm, root, m, entries(r, &seq, key, 1000+r.Intn(3000), []int{0, 1, 3}[r.Intn(3)]))
+			var l []api.Entry
+			for i, p := range m {
+				seq++
+				if i%10 > 0 {
+					l = append(l, del(seq, p.Key))
+				} else if len(p.Key) < 12 {
+					l = append(l, put(seq, p.Key+"z", "new"))
+				}
+			}
+			root, m = grow(t, rm, root, m, l)
+		}
+	}
+}
+
 func TestP14_1Vanish(t *testing.T) {
 	// What is taken away from the beginning, from the end, or from within, takes nodes away; then others come.
 	val := strings.Repeat("v", 16)
@@ -422,7 +448,7 @@ func TestP14_1Build(t *testing.T) {
 func handmade(t *testing.T, r *room) (int, []api.Pair) {
 	low := r.add(t, api.Node{Kids: []int{r.add(t, leaf("a", "b")), r.add(t, leaf("d", "e"))}, Pivots: []string{"c"}, Buffers: [][]api.Entry{{put(5, "b", "5")}, {del(6, "d")}}})
 	high := r.add(t, api.Node{Kids: []int{r.add(t, leaf("m")), r.add(t, leaf("p", "q"))}, Pivots: []string{"n"}, Buffers: [][]api.Entry{nil, {wipe(9, "p", "q")}}})
-	root := r.add(t, api.Node{Kids: []int{low, high}, Pivots: []string{"m"}, Buffers: [][]api.Entry{{put(7, "aa", "7"), put(8, "d", "8")}, {wipe(1, "m", "n"), put(3, "o", "3")}}})
+	root := r.add(t, api.Node{Kids: []int{low, high}, Pivots: []string{"m"}, Buffers: [][]api.Entry{{put(2, "aa", "7"), put(4, "d", "8")}, {wipe(1, "m", "n"), put(3, "o", "3")}}})
 	return root, []api.Pair{{Key: "a", Value: "a"}, {Key: "aa", Value: "7"}, {Key: "b", Value: "5"}, {Key: "d", Value: "8"}, {Key: "e", Value: "e"}, {Key: "o", Value: "3"}, {Key: "q", Value: "q"}}
 }
 
