@@ -597,7 +597,7 @@ func TestP22_3FoundDecision(t *testing.T) {
 	}
 }
 
-func TestP22_4NoPanicP0_4(t *testing.T) {
+func TestP0_4NoMessages(t *testing.T) {
 	r := rand.New(rand.NewSource(1))
 	c := made(t, 3, []api.Owner{{Shard: 1}, {Lo: "g", Shard: 2}, {Lo: "p", Shard: 3}})
 	do(t, c, round, round, begin(1, put("a", "1"), put("h", "2"), put("q", "3")), round, round)
@@ -769,7 +769,7 @@ func newChaos(t *testing.T, seed int64) *chaos {
 
 const chaosSeeds = 250
 
-func TestP22_4Chaos(t *testing.T) {
+func TestP0_1P0_2P0_5Chaos(t *testing.T) {
 	committed, moved := 0, 0
 	for seed := range int64(chaosSeeds) {
 		x := newChaos(t, seed)
@@ -797,7 +797,7 @@ func TestP22_4Chaos(t *testing.T) {
 	}
 }
 
-func TestP22_4Settles(t *testing.T) {
+func TestP0_5Settles(t *testing.T) {
 	// Longer ones, with rounds between: many transactions on the same keys, and moves that come to their end.
 	for seed := range int64(40) {
 		x := newChaos(t, 1000+seed)
@@ -815,7 +815,7 @@ func TestP22_4Settles(t *testing.T) {
 	}
 }
 
-func TestP22_4MovesP0_3(t *testing.T) {
+func TestP0_3Moves(t *testing.T) {
 	// Nothing is asked for: then no step of a split or a move changes the map, whatever falls.
 	for seed := range int64(80) {
 		x := newChaos(t, 2000+seed)
